@@ -1,0 +1,1 @@
+"""Wheelreach: long values read from wheels that come round."""

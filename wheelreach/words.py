@@ -1,0 +1,69 @@
+"""Words of texts: they are taken one by one, and the first one that cannot stand is told."""
+
+from wheelreach.errors import BadText
+
+MOST_DIGITS = 120
+CHUNK = 10 ** 64
+CHUNK_DIGITS = 64
+
+
+def number_in(word):
+    """The integer from 0 on that str writes as this word; None if there is none of at most 120 digits."""
+    if not word.isascii() or not word.isdigit() or len(word) > MOST_DIGITS:
+        return None
+    if word[0] == "0" and len(word) > 1:
+        return None
+    return int(word)
+
+
+def number_text(number):
+    """What str writes for an integer from 0 on, also for one that is too long for str."""
+    parts = []
+    left = number
+    while left >= CHUNK:
+        left, last = divmod(left, CHUNK)
+        parts.append(str(last).zfill(CHUNK_DIGITS))
+    parts.append(str(left))
+    return "".join(parts[::-1])
+
+
+def run_words(runs):
+    """Each run as its begin, `to` and its end, with a comma between two of them."""
+    return " , ".join([f"{number_text(begin)} to {number_text(end)}" for begin, end in runs])
+
+
+class Words:
+    """The words of a text, in order; its errors tell the line that is passed."""
+
+    def __init__(self, text, line=0):
+        if not isinstance(text, str):
+            raise BadText(line, 0)
+        self.words = text.split(" ")
+        self.line = line
+        self.at = 0
+
+    def upcoming(self):
+        """The next word; None behind the last one."""
+        return self.words[self.at] if self.at < len(self.words) else None
+
+    def take(self, *allowed):
+        """The next word, which must be one of those that are allowed."""
+        word = self.upcoming()
+        if word is None or word not in allowed:
+            raise BadText(self.line, self.at)
+        self.at = self.at + 1
+        return word
+
+    def take_number(self, low, high):
+        """The next word as an integer from low to high."""
+        word = self.upcoming()
+        number = None if word is None else number_in(word)
+        if number is None or not low <= number <= high:
+            raise BadText(self.line, self.at)
+        self.at = self.at + 1
+        return number
+
+    def finish(self):
+        """There must be no word more."""
+        if self.at < len(self.words):
+            raise BadText(self.line, self.at)
