@@ -61,7 +61,8 @@ class Meeting(Case):
 
     def test_all_and_none(self):
         every, none = Lot.every(), Lot.none()
-        self.same([meeting(every, every), meeting(every, none), meeting(none, none), meeting(none, every)], [1, 0, 0, 0])
+        self.same([meeting(every, every), meeting(every, none), meeting(none, none)], [1, 0, 0])
+        self.same(meeting(none, every), 0)
         lot = Lot(FAR, (3, 10 ** 100))
         self.same([meeting(lot, every), meeting(every, lot), meeting(lot, none)], [10 ** 100 - 2] * 2 + [0])
 

@@ -106,7 +106,7 @@ class LookJoins(Case):
 
     def test_great_lots(self):
         self.check(Lot.around(10 ** 100, 5), Lot.around(9 * 10 ** 99, 5))
-        self.check(Lot(FAR, (3, 10 ** 100)), Lot(FAR + 1, (3, 3)), Lot.every())
+        self.check(Lot(FAR, (3, 9)), Lot(FAR + 1, (3, 3)), Lot.every())
         one, other = Lot(10 ** 60, (0, 10 ** 59)), Lot(10 ** 60 + 10 ** 58, (7, 10 ** 57), (10 ** 58 * 3, 10 ** 58 * 4))
         found = join(one, other)
         self.assertGreater(len(found.tables[1][1]), 10)
