@@ -104,6 +104,22 @@ class LookJoins(Case):
         for runs in (((1, 3),), ((1, 4),), ((0, 3),), ((0, 1), (2, 3)), ((2, 3), (5, 5)), ((1, 1), (2, 3)), ((3, 5),)):
             self.same(shows_join(Join(((4, runs),)), lot), runs == ((1, 3),))
 
+    def test_runs_that_make_up_for_a_lost_one(self):
+        # they lie in the lot and have as many members in all, but some of them twice
+        lot = Lot(20, (4, 5), (8, 9), (18, 22))
+        for runs in (((0, 1), (8, 9), (18, 22)), ((1, 2), (4, 5), (18, 22)), ((8, 9), (18, 20), (19, 22)),
+                     ((4, 5), (18, 21), (19, 21)), ((8, 8), (8, 9), (8, 9), (18, 21)), ((4, 5), (4, 5), (18, 22)),
+                     ((-2, 2), (4, 5), (8, 9)), ((4, 5), (8, 9), (38, 42)), ((0, 2), (4, 5), (8, 9), (18, 19)),
+                     ((4, 4), (5, 5), (8, 9), (18, 22)), ((4, 5), (8, 9), (18, 22)), ((0, 2), (8, 9), (18, 21))):
+            self.same(shows_join(Join(((20, runs),)), lot), runs == lot.runs)
+        for begin in range(10):
+            one = Lot(10, (begin, begin + 3))
+            for other in range(-12, 23):
+                self.same(shows_join(Join(((10, ((other, other + 3),)),)), one), other == begin)
+            for cut in range(1, 4):
+                runs = tuple(sorted([(begin, begin + cut - 1), ((begin + cut) % 10, (begin + cut) % 10 + 3 - cut)]))
+                self.same(shows_join(Join(((10, runs),)), one), False)
+
     def test_great_lots(self):
         self.check(Lot.around(10 ** 100, 5), Lot.around(9 * 10 ** 99, 5))
         self.check(Lot(FAR, (3, 9)), Lot(FAR + 1, (3, 3)), Lot.every())

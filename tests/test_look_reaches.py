@@ -171,6 +171,14 @@ class Unsures(Case):
         self.same(shows_sure(two, 9, 0, Unsure(0, 2, (0, 0), (), (True,))), False)
         self.same(shows_sure(two, 9, 0, Unsure(0, True, (0, 0), (), ())), False)
 
+    def test_marks_beyond_the_period(self):
+        meter = Meter(Exact(2), Exact(3), off=1)
+        self.same(shows_sure(meter, 9, 0, Unsure(0, 3, (1, 0), (0,), ())), True)
+        for mark in (2, 3, 4, -1, 10 ** 100, True, "1", (), 1.0):
+            self.same(shows_sure(meter, 9, 0, Unsure(0, 3, (mark, 0), (0,), (0,))), False)
+            self.same(shows_sure(meter, 9, 0, Unsure(0, 6, (mark, 0), (0,), (0,))), False)
+        self.same(shows_sure(meter, 9, 0, Unsure(0, 6, (1, 0), (0,), (0,))), True)
+
     def test_any_right_pair(self):
         found = [(low, high) for low, high in itertools.product(range(0, 905), repeat=2)
                  if high - low in (898, 899, 900) or (low < 3 and high in (1, 2, 3))]

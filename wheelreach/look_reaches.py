@@ -80,7 +80,7 @@ def places_off(meter, marks, value):
 
 def are_places(value, places):
     """Whether any value is just this tuple of integers, kinds counted."""
-    if not isinstance(value, tuple) or value != places:
+    if value != places:
         return False
     for place in value:
         if not is_whole(place):

@@ -3,8 +3,8 @@
 from wheelreach.errors import BadLot, BadNumber, BadText, NoMember, NoPlace, TooMany
 from wheelreach.meets import crossings, meet
 from wheelreach.numbers import common, is_between, is_from, is_whole
-from wheelreach.rounds import MOST_RUNS, how_many_below, is_full, is_run, last_member, least_form
-from wheelreach.rounds import member_at, next_member, rest_of, round_of, run_with, size_of
+from wheelreach.rounds import MOST_RUNS, end_behind, how_many_below, is_full, is_run, last_member, least_form
+from wheelreach.rounds import member_at, next_member, rest_of, round_of, size_of
 from wheelreach.words import Words, number_text, run_words
 
 MOST_FACTOR = 10 ** 30
@@ -87,7 +87,7 @@ class Lot:
         return f"modulo {number_text(self.period)} : {run_words(self.runs)}"
 
     def __contains__(self, value):
-        return is_whole(value) and run_with(form_of(self), value) is not None
+        return is_whole(value) and end_behind(form_of(self), value) is not None
 
     def __and__(self, other):
         if not isinstance(other, Lot):
@@ -157,9 +157,7 @@ class Lot:
         """Whether each member is one of the other lot."""
         if not isinstance(other, Lot):
             raise BadLot("other")
-        if is_full(form_of(self)):
-            return is_full(form_of(other))
-        return is_full(form_of(other)) or not crossings(form_of(self), form_of(~other), 1)
+        return not crossings(form_of(self), form_of(~other), 1)
 
     def at_least(self, n):
         """The nearest member from n on, up."""
@@ -206,13 +204,13 @@ class Lot:
             yield (low, high)
             return
         begin = low
-        while self.runs and begin <= high:
+        while self.runs:
             begin = next_member(form_of(self), begin)
             if begin > high:
                 return
-            found = run_with(form_of(self), begin)
-            yield (begin, min(found[1], high))
-            begin = found[1] + 1
+            end = end_behind(form_of(self), begin)
+            yield (begin, min(end, high))
+            begin = end + 1
 
 
 def form_of(lot):

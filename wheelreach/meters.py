@@ -183,4 +183,5 @@ def take_meter(words):
     words.take("more")
     more = words.take_number(0, MOST_OFF)
     words.take("lost")
-    return Meter(*wheels, off=off, more=more, lost=words.take_number(0, MOST_OFF))
+    lost = words.take_number(0, MOST_OFF)
+    return Meter(*wheels, off=off, more=more, lost=lost)

@@ -94,8 +94,8 @@ def begun(rows, place):
     return low
 
 
-def run_with(table, number):
-    """The run in which a number lies, moved to where it lies; None if it lies in none."""
+def end_behind(table, number):
+    """The end of the run in which a number lies; None if it lies in none."""
     period, runs = table
     if not runs:
         return None
@@ -105,21 +105,21 @@ def run_with(table, number):
     if at == 0:
         # only the last run of the round ahead can reach so far
         base = base - period
-    begin, end = runs[at - 1]
-    return (base + begin, base + end) if base + end >= number else None
+    end = base + runs[at - 1][1]
+    return end if end >= number else None
 
 
 def has_run(table, run):
     """Whether all members of a run lie in a round."""
     if is_full(table):
         return True
-    found = run_with(table, run[0])
-    return found is not None and run[1] <= found[1]
+    end = end_behind(table, run[0])
+    return end is not None and run[1] <= end
 
 
 def next_member(table, number):
     """The least member from a number on; the round has members."""
-    if run_with(table, number) is not None:
+    if end_behind(table, number) is not None:
         return number
     period, runs = table
     place = number % period
@@ -131,7 +131,7 @@ def next_member(table, number):
 
 def last_member(table, number):
     """The greatest member up to a number; the round has members."""
-    if run_with(table, number) is not None:
+    if end_behind(table, number) is not None:
         return number
     period, runs = table
     place = number % period

@@ -49,7 +49,7 @@ class Words:
     def take(self, *allowed):
         """The next word, which must be one of those that are allowed."""
         word = self.upcoming()
-        if word is None or word not in allowed:
+        if word not in allowed:
             raise BadText(self.line, self.at)
         self.at = self.at + 1
         return word

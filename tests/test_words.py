@@ -1,0 +1,43 @@
+"""words.py: integers and words of texts."""
+
+import unittest
+
+from helpers import Case
+from wheelreach.errors import BadText
+from wheelreach.words import Words, number_in, number_text
+
+
+class Numbers(Case):
+    def test_number_in(self):
+        for number in (0, 1, 9, 10, 120, 10 ** 64, 10 ** 119, 10 ** 120 - 1):
+            self.same(number_in(str(number)), number)
+        for word in ("", "-0", "+1", "01", "00", " 1", "1 ", "1\n", "1_0", "1.0", "1e3", "0x1", "-1", str(10 ** 120),
+                     "1" * 5000, "\u0663", "\u00b2", "\uff11"):
+            self.same(number_in(word), None)
+
+    def test_number_text(self):
+        for digits in (*range(1, 130), 1000, 4000):
+            for number in (10 ** digits - 1, 10 ** digits, 10 ** digits + 7 * 10 ** (digits // 2)):
+                self.same(number_text(number), str(number))
+        self.same((number_text(0), len(number_text(10 ** 9000 + 3)), number_text(10 ** 9000)),
+                  ("0", 9001, "1" + "0" * 9000))
+
+
+class Taking(Case):
+    def test_lines_and_words(self):
+        words = Words("a 7  b", 3)
+        self.same((words.upcoming(), words.take("b", "a"), words.upcoming()), ("a", "a", "7"))
+        self.raises(BadText(3, 1), words.take, "8")
+        self.raises(BadText(3, 1), words.take_number, 8, 9)
+        self.same(words.take_number(7, 7), 7)
+        for work in (words.take, words.finish):
+            self.raises(BadText(3, 2), work)
+        self.same((words.take(""), words.take("b"), words.upcoming(), words.finish()), ("", "b", None, None))
+        self.raises(BadText(3, 4), words.take, "b")
+        self.raises(BadText(3, 4), words.take_number, 0, 9)
+        self.raises(BadText(5, 0), Words, 7, 5)
+        self.raises(BadText(0, 0), Words, ["a"])
+
+
+if __name__ == "__main__":
+    unittest.main()
