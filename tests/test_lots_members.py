@@ -99,6 +99,19 @@ class Members(Case):
         self.same(list(lot.runs_between(7, FAR - 9)), [(7, 10 ** 100), (FAR - 10, FAR - 9)])
         self.same(next(lot.each(10 ** 100 + 1)), FAR - 10)
 
+    def test_by_name_and_without_changes(self):
+        for lot in self.lots:
+            if not lot:
+                continue
+            before = (lot.period, lot.runs, lot.size)
+            self.same((lot.at_least(n=7), lot.at_most(n=7)), (lot.at_least(7), lot.at_most(7)))
+            self.same(lot.how_many(high=9, low=-4), lot.how_many(-4, 9))
+            self.same(list(lot.runs_between(high=9, low=-4)), list(lot.runs_between(-4, 9)))
+            self.same((lot.nth(3), next(lot.each()), 5 in lot, str(lot), len(lot), lot[:9]),
+                      (lot.nth(index=3, begin=0), lot.at_least(0), lot.how_many(5, 5) == 1, str(lot), len(before[1]),
+                       before[1]))
+            self.same((lot.period, lot.runs, lot.size), before)
+
     def test_wrong_numbers(self):
         for lot in (Lot(7, (1, 2)), Lot.every(), Lot.none()):
             for value in others(is_int):

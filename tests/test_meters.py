@@ -181,6 +181,27 @@ class Parts(Case):
         self.same(numbers(meter), (1, 2, 3))
 
 
+    def test_nothing_changes_a_meter(self):
+        meter = Meter(*EIGHT[:6], off=1, more=2, lost=3)
+        before, wheels = parts(meter), meter.wheels
+        self.assertEqual((len(meter + meter[:1]), len(meter * 3)), (7, 6))
+        meter.wider(2)
+        meter.without(1, 2)
+        meter.with_numbers(0, 0, 0)
+        meter[1:4]
+        meter(7)
+        marks = [0, None, 0, 0, 0, 0]
+        need_reading(meter, marks)
+        list(meter.choices())
+        meter.parting(9)
+        meter.is_blind(9)
+        self.same((parts(meter), marks), (before, [0, None, 0, 0, 0, 0]))
+        self.assertIs(meter.wheels, wheels)
+        fewer = meter.with_numbers(0, 1, 1)
+        first, second = fewer.choices(), fewer.choices()
+        self.same([next(first), next(first), next(second)], [(0, 1, 2, 3), (0, 1, 2, 4), (0, 1, 2, 3)])
+
+
 class Parting(Case):
     def test_parting_and_blind(self):
         rng = dice(52)
