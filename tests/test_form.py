@@ -160,6 +160,7 @@ class Form(unittest.TestCase):
                    "__add__ __neg__ __mul__ __floordiv__ __mod__ __contains__ is_within __eq__ at_least at_most "
                    "how_many nth each runs_between __str__",
             "Join": "__init__ __eq__", "Sure": "__init__ __eq__", "Unsure": "__init__ __eq__ __bool__",
+            "Slip": "__init__ __eq__ __bool__", "Kept": "__init__ __eq__", "Drifts": "__init__ __eq__ __bool__",
             "Wheel": "trusted play never_parts near __call__ each_mark lets shown_by does_part wider __mul__ __eq__ "
                      "__str__ read",
             "Even": "__init__", "Exact": "__init__", "Lagging": "__init__", "Grid": "__init__",
@@ -180,7 +181,9 @@ class Form(unittest.TestCase):
             "joins": "meeting join Join joined", "look_joins": "shows_join",
             "wheels": "Wheel Even Exact Lagging Grid", "meters": "Meter need_reading",
             "reaches": "pair_at next_blind last_blind blind_lots reach_of sure profile Unsure Sure",
-            "look_reaches": "shows_sure",
+            "look_reaches": "shows_sure", "windows": "least_window windows",
+            "stairs": "stairs greatest_slip Slip", "look_stairs": "shows_slip",
+            "speeds": "edge_of keeps greatest_spread Kept Drifts left_by sure_by_moves", "look_speeds": "shows_keeping",
         }
         found = {name[:-3]: {node.name for node in tree.body if isinstance(node, (ast.FunctionDef, ast.ClassDef))}
                  for name, tree in trees()}

@@ -6,9 +6,13 @@ from helpers import ANY, Case, alike
 from wheelreach.joins import Join
 from wheelreach.papers import Paper
 from wheelreach.reaches import Sure, Unsure
+from wheelreach.speeds import Drifts, Kept
+from wheelreach.stairs import Slip
 
-PAPERS = [(Join, ("tables",)), (Sure, ("tables",)), (Unsure, ("low", "high", "marks", "low_off", "high_off"))]
-FALSE = (Unsure,)
+PAPERS = [(Join, ("tables",)), (Sure, ("tables",)), (Unsure, ("low", "high", "marks", "low_off", "high_off")),
+          (Slip, ("k", "certificate", "counterexample")), (Kept, ("edge", "certificate")),
+          (Drifts, ("edge", "counterexample"))]
+FALSE = (Unsure, Drifts)
 
 
 class Papers(Case):
@@ -60,7 +64,8 @@ class Papers(Case):
     def test_truth(self):
         for made, names in PAPERS:
             for value in ANY:
-                self.assertIs(bool(made(*[value] * len(names))), made not in FALSE)
+                wanted = made not in FALSE and not (made is Slip and alike(value, -1))
+                self.assertIs(bool(made(*[value] * len(names))), wanted)
 
     def test_alike_counts_kinds(self):
         self.assertFalse(alike((1, (True,)), (1, (1,))))

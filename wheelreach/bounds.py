@@ -1,9 +1,22 @@
 """The bounds of the numbers that are asked for, and the errors for those beyond them."""
 
 from wheelreach.errors import BadNumber
-from wheelreach.numbers import is_between
+from wheelreach.numbers import is_between, is_from, is_whole
 
 FARTHEST = 10 ** 50 * 10 ** 50
+MOST_SPREAD = 10 ** 49 * 10 ** 50
+
+
+def need_whole(value):
+    """Raises BadNumber for any value that is no integer."""
+    if not is_whole(value):
+        raise BadNumber(value)
+
+
+def need_from(value, low):
+    """Raises BadNumber for any value that is no integer from low on."""
+    if not is_from(value, low):
+        raise BadNumber(value)
 
 
 def need_between(value, low, high):

@@ -42,12 +42,25 @@ def next_table(table, lot):
 def join(*lots):
     """The Join of the lots."""
     need_lots(lots)
+    return Join(tables_along(lots, tuple(range(len(lots))), {}))
+
+
+def tables_along(lots, places, known):
+    """The tables of the join of the lots at these places; known keeps each table by the places behind it."""
     tables = []
     table = ALL
-    for lot in lots:
-        table = next_table(table, lot)
+    for many in range(1, len(places) + 1):
+        ahead = places[:many]
+        if ahead not in known:
+            known[ahead] = next_table(table, lots[ahead[-1]])
+        table = known[ahead]
         tables.append(table)
-    return Join(tuple(tables))
+    return tuple(tables)
+
+
+def rows_of(lots, choices, known):
+    """For each choice the tables of the join of the lots at its places; known as in tables_along."""
+    return tuple([tables_along(lots, choice, known) for choice in choices])
 
 
 def joined(*lots):

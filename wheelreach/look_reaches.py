@@ -2,7 +2,7 @@
 
 from wheelreach.bounds import need_reach, need_window
 from wheelreach.look_joins import are_tables
-from wheelreach.meters import how_many_lost, need_meter
+from wheelreach.meters import how_many_lost, need_meter, places_off
 from wheelreach.numbers import is_between, is_whole
 from wheelreach.reaches import Sure, Unsure
 from wheelreach.rounds import next_member
@@ -67,15 +67,6 @@ def is_reading(meter, marks):
         if mark is not None and not is_between(mark, 0, wheel.period - 1):
             return False
     return how_many_lost(marks) <= meter.lost
-
-
-def places_off(meter, marks, value):
-    """The places of the wheels that have a mark which they cannot show at the value."""
-    places = []
-    for at, wheel in enumerate(meter):
-        if marks[at] is not None and not wheel.lets(value, marks[at]):
-            places.append(at)
-    return tuple(places)
 
 
 def are_places(value, places):

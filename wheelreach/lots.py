@@ -1,6 +1,7 @@
 """Lots: sets of integers that come again after a period."""
 
-from wheelreach.errors import BadLot, BadNumber, BadText, NoMember, NoPlace, TooMany
+from wheelreach.bounds import need_from, need_whole
+from wheelreach.errors import BadLot, BadText, NoMember, NoPlace, TooMany
 from wheelreach.meets import crossings, meet
 from wheelreach.numbers import common, is_between, is_from, is_whole
 from wheelreach.rounds import MOST_RUNS, end_behind, how_many_below, is_full, is_run, last_member, least_form
@@ -181,8 +182,7 @@ class Lot:
 
     def nth(self, index, begin=0):
         """The member with this index among those from begin on, ascending."""
-        if not is_from(index, 0):
-            raise BadNumber(index)
+        need_from(index, 0)
         need_whole(begin)
         need_member(self)
         return member_at(form_of(self), how_many_below(form_of(self), begin) + index)
@@ -223,12 +223,6 @@ def other_than(lot):
     if not isinstance(lot, Lot):
         raise BadLot("other")
     return ~lot
-
-
-def need_whole(value):
-    """Raises BadNumber for any value that is no integer."""
-    if not is_whole(value):
-        raise BadNumber(value)
 
 
 def need_member(lot):

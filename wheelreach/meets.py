@@ -42,18 +42,18 @@ def crossings(one, other, most):
     return found
 
 
-def meet(one, other):
+def meet(one, other, most=MOST_RUNS):
     """The round of what lies in both rounds; its period is the least common multiple of theirs.
 
-    A round of all integers must have the period 1 here.
+    A round of all integers must have the period 1 here. Raises TooMany for more than most runs.
     """
     if is_full(one):
         return other
     if is_full(other):
         return one
-    found = crossings(one, other, MOST_RUNS + 1)
-    if len(found) > MOST_RUNS:
-        raise TooMany("runs", MOST_RUNS)
+    found = crossings(one, other, most + 1)
+    if len(found) > most:
+        raise TooMany("runs", most)
     shared = common(one[0], other[0])
     rest = other[0] // shared
     period = one[0] * rest

@@ -171,6 +171,15 @@ def how_many_lost(marks):
     return len([mark for mark in marks if mark is None])
 
 
+def places_off(meter, marks, value):
+    """The places of the wheels that have a mark which they cannot show at the value."""
+    places = []
+    for at, wheel in enumerate(meter):
+        if marks[at] is not None and not wheel.lets(value, marks[at]):
+            places.append(at)
+    return tuple(places)
+
+
 def take_meter(words):
     """The Meter whose words come next."""
     wheels = [take_wheel(words)]

@@ -1,13 +1,13 @@
 """Reaches: how far a meter tells a value, and why no farther."""
 
 from wheelreach.bounds import FARTHEST, need_between, need_reach, need_window
+from wheelreach.covers import cover_of, last_tables
 from wheelreach.errors import BadValue
-from wheelreach.joins import next_table
+from wheelreach.joins import rows_of
 from wheelreach.lots import Lot
 from wheelreach.meters import need_meter
 from wheelreach.numbers import is_between
 from wheelreach.papers import Paper
-from wheelreach.rounds import ALL, last_member, next_member
 
 
 class Unsure(Paper):
@@ -39,56 +39,46 @@ class Sure(Paper):
         return isinstance(other, Sure) and self.tables == other.tables
 
 
-def tables_along(nears, choice, known):
-    """The tables of the join of the near lots at these places; known keeps each table by the places behind it."""
-    tables = []
-    table = ALL
-    for many in range(1, len(choice) + 1):
-        places = choice[:many]
-        if places not in known:
-            known[places] = next_table(table, nears[places[-1]])
-        table = known[places]
-        tables.append(table)
-    return tuple(tables)
+def nears_of(meter):
+    """The near lot of each wheel."""
+    return [wheel.near for wheel in meter]
 
 
-def tables_of_choices(meter, known):
+def blind_rows(meter, known):
     """For each choice of the meter the tables of its join; known as in tables_along, for the same wheels."""
-    nears = [wheel.near for wheel in meter]
     choices = list(meter.choices())
-    return tuple([tables_along(nears, choice, known) for choice in choices])
+    return rows_of(nears_of(meter), choices, known)
 
 
-def last_tables(rows):
-    """The last table of each row of tables; that of all integers for a row without tables."""
-    return [row[-1] if row else ALL for row in rows]
+def blind_cover(meter, rows):
+    """The Cover of the blind differences."""
+    return cover_of(meter, nears_of(meter), rows, meter.spare)
 
 
-def next_in(rows, number):
-    """The least integer from a number on that lies in the last table of a row."""
-    return min([next_member(table, number) for table in last_tables(rows)])
+def blind_of(meter):
+    """The Cover of the blind differences, joined anew."""
+    return blind_cover(meter, blind_rows(meter, {}))
 
 
 def next_blind(meter, after):
     """The least blind difference above an integer."""
     need_meter(meter)
     need_between(after, -FARTHEST, FARTHEST)
-    return next_in(tables_of_choices(meter, {}), after + 1)
+    return blind_of(meter).next_in(after + 1)
 
 
 def last_blind(meter, before):
     """The greatest blind difference below an integer."""
     need_meter(meter)
     need_between(before, -FARTHEST, FARTHEST)
-    rows = tables_of_choices(meter, {})
-    return max([last_member(table, before - 1) for table in last_tables(rows)])
+    return blind_of(meter).last_in(before - 1)
 
 
 def blind_lots(meter):
     """For each choice the Lot of the differences that none of its wheels parts."""
     need_meter(meter)
     lots = []
-    for period, runs in last_tables(tables_of_choices(meter, {})):
+    for period, runs in last_tables(blind_rows(meter, {})):
         lots.append(Lot(period, *runs))
     return tuple(lots)
 
@@ -97,7 +87,7 @@ def reach_of(meter, window):
     """The greatest reach for which the meter is sure with this window."""
     need_meter(meter)
     need_window(window)
-    return next_in(tables_of_choices(meter, {}), window + 1)
+    return blind_of(meter).next_in(window + 1)
 
 
 def profile(meter, window):
@@ -108,8 +98,8 @@ def profile(meter, window):
     known = {}
     reaches = []
     for spare in range(many + 1):
-        rows = tables_of_choices(meter.with_numbers(0, spare, 0), known)
-        reaches.append(next_in(rows, window + 1))
+        other = meter.with_numbers(0, spare, 0)
+        reaches.append(blind_cover(other, blind_rows(other, known)).next_in(window + 1))
     return tuple(reaches)
 
 
@@ -147,6 +137,10 @@ def sure(meter, reach, window):
     need_meter(meter)
     need_reach(reach)
     need_window(window)
-    rows = tables_of_choices(meter, {})
-    d = next_in(rows, window + 1)
+    return sure_by_rows(meter, blind_rows(meter, {}), reach, window)
+
+
+def sure_by_rows(meter, rows, reach, window):
+    """What sure returns for a meter whose choices have these rows of tables."""
+    d = blind_cover(meter, rows).next_in(window + 1)
     return pair_at(meter, d) if d < reach else Sure(rows)
