@@ -161,6 +161,10 @@ class Form(unittest.TestCase):
                    "how_many nth each runs_between __str__",
             "Join": "__init__ __eq__", "Sure": "__init__ __eq__", "Unsure": "__init__ __eq__ __bool__",
             "Slip": "__init__ __eq__ __bool__", "Kept": "__init__ __eq__", "Drifts": "__init__ __eq__ __bool__",
+            "Told": "__init__ __eq__", "Spread": "__init__ __eq__ __bool__", "Noticed": "__init__ __eq__ __bool__",
+            "Nearest": "__init__ __eq__", "Trial": "keep __enter__ __exit__",
+            "Follower": "__init__ span known deeds __len__ __iter__ __contains__ is_within hear __call__ move reach meter "
+                        "undo trial tried begun replay twin __eq__",
             "Wheel": "trusted play never_parts near __call__ each_mark lets shown_by does_part wider __mul__ __eq__ "
                      "__str__ read",
             "Even": "__init__", "Exact": "__init__", "Lagging": "__init__", "Grid": "__init__",
@@ -184,6 +188,10 @@ class Form(unittest.TestCase):
             "look_reaches": "shows_sure", "windows": "least_window windows",
             "stairs": "stairs greatest_slip Slip", "look_stairs": "shows_slip",
             "speeds": "edge_of keeps greatest_spread Kept Drifts left_by sure_by_moves", "look_speeds": "shows_keeping",
+            "readings": "fits told choices_of tables_of next_fit last_fit each_fit off_at Told Spread Noticed surely_off "
+                        "maybe_off",
+            "look_readings": "shows_told", "nearest": "strain nearest Nearest", "look_nearest": "shows_nearest",
+            "follower": "Follower",
         }
         found = {name[:-3]: {node.name for node in tree.body if isinstance(node, (ast.FunctionDef, ast.ClassDef))}
                  for name, tree in trees()}

@@ -4,15 +4,18 @@ import unittest
 
 from helpers import ANY, Case, alike
 from wheelreach.joins import Join
+from wheelreach.nearest import Nearest
 from wheelreach.papers import Paper
 from wheelreach.reaches import Sure, Unsure
+from wheelreach.readings import Noticed, Spread, Told
 from wheelreach.speeds import Drifts, Kept
 from wheelreach.stairs import Slip
 
 PAPERS = [(Join, ("tables",)), (Sure, ("tables",)), (Unsure, ("low", "high", "marks", "low_off", "high_off")),
           (Slip, ("k", "certificate", "counterexample")), (Kept, ("edge", "certificate")),
-          (Drifts, ("edge", "counterexample"))]
-FALSE = (Unsure, Drifts)
+          (Drifts, ("edge", "counterexample")), (Told, ("low", "high", "tables")), (Spread, ("low", "high")),
+          (Noticed, ("tables",)), (Nearest, ("strain", "runs", "less", "tables"))]
+FALSE = (Unsure, Drifts, Spread, Noticed)
 
 
 class Papers(Case):

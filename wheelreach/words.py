@@ -3,6 +3,7 @@
 from wheelreach.errors import BadText
 
 MOST_DIGITS = 120
+BEYOND = 10 ** 60 * 10 ** 60
 CHUNK = 10 ** 64
 CHUNK_DIGITS = 64
 
@@ -14,6 +15,14 @@ def number_in(word):
     if word[0] == "0" and len(word) > 1:
         return None
     return int(word)
+
+
+def integer_in(word):
+    """The integer that str writes as this word; None if there is none of at most 120 digits."""
+    if not word.startswith("-"):
+        return number_in(word)
+    number = number_in(word[1:])
+    return -number if number else None
 
 
 def number_text(number):
@@ -30,6 +39,11 @@ def number_text(number):
 def run_words(runs):
     """Each run as its begin, `to` and its end, with a comma between two of them."""
     return " , ".join([f"{number_text(begin)} to {number_text(end)}" for begin, end in runs])
+
+
+def mark_words(marks):
+    """Each mark of a reading, `-` for a lost wheel."""
+    return " ".join(["-" if mark is None else number_text(mark) for mark in marks])
 
 
 class Words:
@@ -59,6 +73,26 @@ class Words:
         word = self.upcoming()
         number = None if word is None else number_in(word)
         if number is None or not low <= number <= high:
+            raise BadText(self.line, self.at)
+        self.at = self.at + 1
+        return number
+
+    def take_whole(self):
+        """The next word as an integer from 0 on."""
+        return self.take_number(0, BEYOND)
+
+    def take_mark(self):
+        """The next word as a mark, an integer from 0 on; None for `-`."""
+        if self.upcoming() == "-":
+            self.at = self.at + 1
+            return None
+        return self.take_whole()
+
+    def take_integer(self):
+        """The next word as any integer."""
+        word = self.upcoming()
+        number = None if word is None else integer_in(word)
+        if number is None:
             raise BadText(self.line, self.at)
         self.at = self.at + 1
         return number
