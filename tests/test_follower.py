@@ -8,6 +8,7 @@ from reading_helpers import lets_fit, random_reading, runs_of
 from wheelreach.errors import BadFollower, BadMark, BadNumber, Nothing, TooMany, Unfit
 from wheelreach.follower import Follower
 from wheelreach.meters import Meter
+from wheelreach.numbers import multiple
 from wheelreach.wheels import Even, Exact, Grid, Wheel
 
 MOST = 10 ** 100
@@ -96,7 +97,7 @@ class Deeds(Case):
                 seen[key] = seen.get(key, 0) + 1
                 ahead = state(follower)
                 if not values:
-                    self.raises(Unfit(), self.do, follower, deed, told)
+                    self.raises(BadFollower("reach") if deed == "reach" else Unfit(), self.do, follower, deed, told)
                     self.same(state(follower) == ahead, True)
                     continue
                 self.do(follower, deed, told)
@@ -166,6 +167,13 @@ class Deeds(Case):
         follower = Follower(TWO, 9)
         follower.move(ahead=4, back=-4)
         self.same(follower.runs, ((4, 8),))
+        # what the package returned may be passed, whatever its size
+        great = multiple(*[10 ** 119 + at for at in range(50)])
+        follower.move(great, great)
+        self.same((follower.runs, len(follower.deeds[1]) > 9000), (((0, 8),), True))
+        self.raises(Unfit(), follower.move, great, -great)
+        self.raises(Unfit(), follower.move, -great, great)
+        self.raises(BadNumber(great), follower.move, -great - 1, great)
 
     def test_reach_and_meter(self):
         follower = Follower.begun(TWO, 40, ((10, 12), (20, 20)))
@@ -175,9 +183,11 @@ class Deeds(Case):
             self.same((follower.reach, follower.runs), (reach, wanted))
         self.same(follower.deeds[-2:], (f"reach {MOST}",) * 2)
         before = state(follower)
-        with self.assertRaises(Unfit):
-            follower.reach = 10
-        self.same(state(follower) == before, True)
+        for reach in (10, 9, 1):
+            with self.assertRaises(BadFollower) as caught:
+                follower.reach = reach
+            self.same((caught.exception.part, type(caught.exception.__cause__)), ("reach", Unfit))
+            self.same(state(follower) == before, True)
         seven = Meter(Exact(7))
         follower.meter = seven
         follower.meter = seven
@@ -277,6 +287,7 @@ class Making(Case):
             with self.assertRaises(BadFollower) as caught:
                 follower.reach = value
             self.same((caught.exception.part, follower.deeds, follower.reach), ("reach", (), 5))
+            self.assertIsNone(caught.exception.__cause__)
 
     def test_begun(self):
         for runs in (((0, 0),), ((0, 39),), ((39, 39),), ((0, 3), (5, 5), (8, 39)), ((0, 0), (2, 2), (4, 4))):

@@ -275,7 +275,8 @@ class Texts(Case):
                             ("reach 0", BadFollower("reach")), (f"reach {MOST + 1}", BadFollower("reach"))):
             self.refused(cause, line)
             self.refused(cause, line, "move 1 1", "reach 400")
-        self.refused(Unfit(), "reach 5", "move -9 400", "reach 450")
+        self.refused(BadFollower("reach"), "reach 5", "move -9 400", "reach 450")
+        self.refused(Unfit(), "move -10 10", "move -490 490")
         self.refused(Unfit(), "hear 40 75", "hear 40 70", meter=TWO)
         self.refused(TooMany("runs", 500), "hear 0", f"reach {MOST}", "move 0 9999", meter=Meter(Exact(7)))
         self.refused(TooMany("runs", 2000), "hear 0 0", meter=Meter(Wheel(10 ** 12, 2000, 0), Exact(10 ** 12 - 1)))
@@ -289,6 +290,10 @@ class Texts(Case):
         self.same((caught.exception.__cause__.line, caught.exception.__cause__.word), (0, 2))
         self.same(follower.undo(), "hear 40 70")
         self.raises(Nothing(), follower.undo)
+        with self.assertRaises(BadDeed) as caught:
+            follower.replay("move -9 9", "reach 9")
+        self.same((caught.exception.at, follower.deeds), (1, ()))
+        self.same((type(caught.exception.__cause__), type(caught.exception.__cause__.__cause__)), (BadFollower, Unfit))
 
 
 if __name__ == "__main__":

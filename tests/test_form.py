@@ -118,6 +118,20 @@ class Form(unittest.TestCase):
                 if isinstance(node, (ast.ListComp, ast.DictComp)):
                     self.assertLessEqual(len(node.generators), 6)
 
+    def test_what_exit_does(self):
+        for name, tree in trees():
+            for node in ast.walk(tree):
+                if not isinstance(node, ast.FunctionDef) or node.name != "__exit__":
+                    continue
+                for inner in node.body:
+                    for row in inner.body if isinstance(inner, ast.If) else [inner]:
+                        self.assertIsInstance(row, ast.Assign, (name, row.lineno))
+                        self.assertIsInstance(row.targets[0], ast.Attribute, (name, row.lineno))
+                        self.assertIsInstance(row.value, ast.Attribute, (name, row.lineno))
+                    # the truth of an attribute is not asked there, since a class has __bool__
+                    if isinstance(inner, ast.If):
+                        self.assertIn(ast.unparse(inner.test), ("kind is None", "kind is not None"))
+
     def test_names(self):
         for name, tree in trees():
             defined = {node.name for node in tree.body if isinstance(node, (ast.FunctionDef, ast.ClassDef))}

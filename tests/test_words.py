@@ -4,7 +4,7 @@ import unittest
 
 from helpers import Case
 from wheelreach.errors import BadText
-from wheelreach.words import Words, integer_in, mark_words, number_in, number_text
+from wheelreach.words import Words, integer_in, integer_text, mark_words, number_in, number_text
 
 
 class Numbers(Case):
@@ -31,6 +31,11 @@ class Numbers(Case):
                 self.same(number_text(number), str(number))
         self.same((number_text(0), len(number_text(10 ** 9000 + 3)), number_text(10 ** 9000)),
                   ("0", 9001, "1" + "0" * 9000))
+
+    def test_integer_text(self):
+        for number in (0, 7, -7, 10 ** 120, -10 ** 120):
+            self.same(integer_text(number), str(number))
+        self.same(integer_text(-10 ** 9000), "-1" + "0" * 9000)
 
 
 class Taking(Case):

@@ -1,7 +1,7 @@
 """Deeds: what is done to a follower, as texts."""
 
 from wheelreach.meters import take_meter
-from wheelreach.words import Words, mark_words
+from wheelreach.words import Words, integer_text, mark_words
 
 
 def hear_text(marks):
@@ -11,7 +11,7 @@ def hear_text(marks):
 
 def move_text(back, ahead):
     """The text of a move."""
-    return f"move {back} {ahead}"
+    return f"move {integer_text(back)} {integer_text(ahead)}"
 
 
 def reach_text(reach):

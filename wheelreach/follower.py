@@ -16,7 +16,7 @@ class Trial:
 
     def __init__(self, follower):
         self.follower = follower
-        self.kept = False
+        self.taken_back = follower
         self.runs_then = ()
         self.meter_then = None
         self.reach_then = None
@@ -24,10 +24,11 @@ class Trial:
 
     def keep(self):
         """The follower stays as it is at the end of the block."""
-        self.kept = True
+        # what is taken back at the end of the block is then a twin, which nobody has
+        self.taken_back = self.follower.twin()
 
     def __enter__(self):
-        self.kept = False
+        self.taken_back = self.follower
         self.runs_then = self.follower.runs
         self.meter_then = self.follower._meter
         self.reach_then = self.follower._reach
@@ -35,11 +36,12 @@ class Trial:
         return self
 
     def __exit__(self, kind, value, trace):
-        if kind is not None or not self.kept:
-            self.follower.runs = self.runs_then
-            self.follower._meter = self.meter_then
-            self.follower._reach = self.reach_then
-            self.follower._past = self.past_then
+        if kind is not None:
+            self.taken_back = self.follower
+        self.taken_back.runs = self.runs_then
+        self.taken_back._meter = self.meter_then
+        self.taken_back._reach = self.reach_then
+        self.taken_back._past = self.past_then
 
 
 class Follower:
@@ -143,7 +145,10 @@ class Follower:
     def set_reach(self, reach):
         """Another reach from now on: values from it on go."""
         need_far(reach)
-        self._done(reach_text(reach), self._meter, reach, cut(self.runs, reach))
+        runs = cut(self.runs, reach)
+        if not runs:
+            raise BadFollower("reach") from Unfit()
+        self._done(reach_text(reach), self._meter, reach, runs)
 
     def set_meter(self, meter):
         """Further readings are read with another meter."""

@@ -12,7 +12,7 @@ def shows_told(meter, marks, reach, window, value):
     need_question(meter, marks, reach, window)
     if isinstance(value, Spread):
         return shows_spread(meter, marks, reach, window, value)
-    if not isinstance(value, (Told, Noticed)):
+    if not isinstance(value, Told) and not isinstance(value, Noticed):
         return False
     if not are_fit_joins(meter, marks, 0, value.tables):
         return False

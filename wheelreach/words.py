@@ -36,6 +36,11 @@ def number_text(number):
     return "".join(parts[::-1])
 
 
+def integer_text(number):
+    """What str writes for any integer, also for one that is too long for str."""
+    return f"-{number_text(-number)}" if number < 0 else number_text(number)
+
+
 def run_words(runs):
     """Each run as its begin, `to` and its end, with a comma between two of them."""
     return " , ".join([f"{number_text(begin)} to {number_text(end)}" for begin, end in runs])
