@@ -308,8 +308,8 @@ class Making(Case):
     def test_equal(self):
         follower = Follower(TWO, 1700)
         self.same((follower == Follower(TWO, 1700), follower != Follower(TWO, 1700)), (True, False))
-        for other in (Follower(TWO, 1701), Follower(TWO.wider(1), 1700), Follower.begun(TWO, 1700, ((0, 1698),)),
-                      *ANY, TWO, follower.runs):
+        for other in (Follower(TWO, 1701), Follower.begun(TWO, 1701, ((0, 1699),)), Follower(TWO.wider(1), 1700),
+                      Follower.begun(TWO, 1700, ((0, 1698),)), *ANY, TWO, follower.runs):
             self.same((follower == other, follower != other, other == follower), (False, True, False))
         # the deeds do not count
         follower.move(1, 1)

@@ -64,6 +64,17 @@ class Right(Case):
                 for other in (least - 1, least + 1, -1, True, False, None, str(k), 1.0, 10 ** 12, 10 ** 120 - 1):
                     self.same(shows_nearest(meter, marks, reach, changed(value, strain=other)), False)
 
+    def test_one_value_alone_has_less(self):
+        meter = Meter(Exact(10))
+        wider = meter.wider(1)
+        for mark, reach, runs in ((0, 5, ((0, 1),)), (0, 1, ((0, 0),)), (4, 5, ((3, 4),))):
+            value = Nearest(1, runs, tables_of(meter, (mark,)), tables_of(wider, (mark,)))
+            self.same(fits(wider, (mark,), 0, reach - 1), runs)
+            self.same(shows_nearest(meter, (mark,), reach, value), False)
+        # with that value beyond the reach
+        value = Nearest(1, ((3, 3),), tables_of(meter, (4,)), tables_of(wider, (4,)))
+        self.same(shows_nearest(meter, (4,), 4, value), True)
+
     def test_strains_beyond_the_bound(self):
         meter = Meter(Exact(FAR))
         for k, wanted in ((999, True), (1000, True), (1001, False), (FAR // 2, False)):

@@ -62,6 +62,16 @@ class Tellings(Case):
                         wanted = low in values and high in values and high - low > window
                         self.same(shows_told(meter, marks, reach, window, Spread(low, high)), wanted)
 
+    def test_nothing_fits_but_beside_the_reach(self):
+        for mark, reach, low, high in ((9, 9, 9, -1), (5, 5, 5, -5), (9, 1, 9, -1), (1, 1, 1, -9)):
+            meter, marks = Meter(Exact(10)), (mark,)
+            tables = tables_of(meter, marks)
+            self.same(shows_told(meter, marks, reach, 0, Noticed(tables)), True)
+            self.same(shows_told(meter, marks, reach, 0, Told(low, high, tables)), False)
+            self.same(shows_told(meter, marks, reach, MOST, Told(high, low, tables)), False)
+            self.same(shows_told(meter, marks, low + 1, 0, Noticed(tables)), False)
+            self.same(shows_told(meter, marks, low + 1, 0, Told(low, low, tables)), True)
+
     def test_changed_tables(self):
         rows = [(Meter(Exact(4), Even(9, 1), Grid(2), lost=1), (1, 5, 0)), (Meter(Exact(4), Exact(6), off=1), (1, 2)),
                 (Meter(Even(5, 1), Exact(7)), (3, 3)), (Meter(Grid(4), Grid(6)), (1, 2))]

@@ -185,6 +185,26 @@ class Many(Case):
             else:
                 self.same(nearest(meter, (1900 + away, 0), 1).strain, away)
 
+    def test_heavy_for_one_step_alone(self):
+        # the first wheel lets all values with one more than last; with last more both are just heavy, or just not
+        for wheel in (Exact(9), Exact(10), Exact(2), Wheel(12, 2, 1), Wheel(13, 0, 2), Wheel(13, 3, 0), Lagging(8, 6)):
+            last = max([k for k in range(10) if wheel.period > wheel.play + 1 + 2 * k])
+            slip = 2000 - wheel.play - 4 * last
+            for more in (0, -1):
+                meter = Meter(wheel, Wheel(FAR - 11, 0, slip + more))
+                for away in (max(0, last - 1), last, last + 1, last + 2, 700, 1000, 1001):
+                    marks = (0, slip + more + away)
+                    if more == 0 and away >= last:
+                        self.raises(RUNS, nearest, meter, marks, 1)
+                    elif away > 1000:
+                        self.raises(STRAIN, nearest, meter, marks, 1)
+                    else:
+                        self.same(nearest(meter, marks, 1).strain, away)
+        # a wheel that lets all values with 1000 more than its slips, or with one more than that
+        for period in (2001, 2002, 2003):
+            self.raises(RUNS, nearest, Meter(Exact(period), Exact(FAR - 11)), (0, 3000), 1)
+        self.raises(STRAIN, nearest, Meter(Exact(1001), Exact(FAR - 11)), (0, 3000), 1)
+
     def test_wheels_that_let_all_values_are_never_heavy(self):
         # up to 449 more they have 4 k + 1 runs in common, 1797 at most; then the second one lets all values
         meter = Meter(Exact(FAR), Exact(901))

@@ -160,6 +160,22 @@ class Great(Case):
         self.same(list(windows(meter, whole - 1, whole - 1)), [(whole - 1, whole + 1)])
         self.same(list(windows(meter, whole - 2)), [])
 
+    def test_what_two_wheels_part_meets_very_late(self):
+        far = 10 ** 12
+        # each wheel parts 3001 and 2999 differences in its middle; the second one comes 28 earlier each time
+        meter = Meter(Wheel(far - 11, (far - 11 - 3001) // 2, 0), Wheel(far - 39, (far - 39 - 2999) // 2, 0), lost=1)
+        rows = list(islice(windows(meter, MOST), 600))
+        for window, reach in rows:
+            self.same((meter.is_blind(window), meter.is_blind(window + 1), meter.is_blind(reach - 1),
+                       meter.is_blind(reach)), (True, False, False, True))
+        # they meet in the middle, then no longer, until one comes round a whole period later than the other one
+        late = [at for at in range(1, 600) if rows[at][0] - rows[at - 1][0] > far]
+        self.same(len(late) > 0 and rows[late[0]][0] > 10 ** 22, True)
+        steps = rows[late[0]][0] // (far - 11)
+        for before in range(steps - 3, steps):
+            middle = before * (far - 11) + (far - 11) // 2
+            self.same([d for d in range(middle - 1600, middle + 1600) if len(meter.parting(d)) > 1], [])
+
     def test_small_meters_without_patience(self):
         rng = dice(103)
         for _ in range(200):
@@ -167,15 +183,21 @@ class Great(Case):
             wanted = pairs_of(meter, 60, 0)
             for patience in (0, 2):
                 with_patience(patience, lambda: self.same(list(windows(meter, 60)), wanted))
+        for meter in (Meter(Wheel(101, 47, 0), Wheel(97, 46, 0), lost=1),
+                      Meter(Wheel(101, 47, 0), Wheel(97, 46, 0), Wheel(20, 9, 0), lost=1)):
+            wanted = pairs_of(meter, 10 ** 4, 0)
+            for most_met in (0, 1, 8, 9):
+                for patience in (0, 5):
+                    with_patience(patience, lambda: self.same(list(windows(meter, 10 ** 4)), wanted), most_met)
 
 
-def with_patience(patience, work):
-    kept = gaps.PATIENCE
-    gaps.PATIENCE = patience
+def with_patience(patience, work, most_met=gaps.MOST_MET):
+    kept = gaps.PATIENCE, gaps.MOST_MET
+    gaps.PATIENCE, gaps.MOST_MET = patience, most_met
     try:
         work()
     finally:
-        gaps.PATIENCE = kept
+        gaps.PATIENCE, gaps.MOST_MET = kept
 
 
 class Wrong(Case):

@@ -1,13 +1,14 @@
 """Gaps: the integers that lie outside of too many of several lots.
 
 The next gap can stand behind very many runs of single lots. So it is sought step by step for a while only; then what
-lies outside of several lots is met first, as far as that makes few runs.
+lies outside of several lots is met first, as far as that makes few runs, and two of what is left are asked at once.
 """
 
 from wheelreach.errors import TooMany
 from wheelreach.meets import meet
 from wheelreach.meters import picks
 from wheelreach.rounds import next_member, rest_of
+from wheelreach.steps import first_in_both
 
 PATIENCE = 2000
 MOST_MET = 5000
@@ -45,19 +46,32 @@ def grouped(tables):
     return group if len(group) == len(tables) else grouped(group)
 
 
+def behind_all(tables, number):
+    """The same number if it lies in all rounds; otherwise one ahead of which no integer behind it does."""
+    for table in tables:
+        number = next_member(table, number)
+    return number
+
+
+def are_two_with_few_runs(tables):
+    """Whether these are two rounds, of which each run can be laid beside each other one."""
+    return len(tables) == 2 and len(tables[0][1]) * len(tables[1][1]) <= MOST_MET
+
+
 def first_in_all(tables, low, high):
     """The least integer from low to high that lies in all rounds; None if there is none."""
     for period, runs in tables:
         if not runs:
             return None
-    number = low
-    while number <= high:
-        following = number
-        for table in tables:
-            following = next_member(table, following)
+    number, steps = low, 0
+    while number is not None and number <= high:
+        if steps == PATIENCE and are_two_with_few_runs(tables):
+            following = first_in_both(tables[0], tables[1], number)
+        else:
+            following = behind_all(tables, number)
         if following == number:
             return number
-        number = following
+        number, steps = following, steps + 1
     return None
 
 
