@@ -153,8 +153,10 @@ class Form(unittest.TestCase):
                     self.assertNotIn(node.name, BARRED)
                     if node.name.startswith("__"):
                         self.assertIn(node.name, OPERATORS)
-                if isinstance(node, ast.Attribute) and node.attr.startswith("__"):
-                    self.assertEqual(node.attr, "__init__")
+                if isinstance(node, ast.Attribute) and node.attr == "__name__":
+                    self.assertRegex(ast.unparse(node), r"^[a-z]+\.__class__\.__name__$")
+                elif isinstance(node, ast.Attribute) and node.attr.startswith("__"):
+                    self.assertIn(node.attr, ("__init__", "__class__"))
             self.assertEqual(len(defined), len([node for node in tree.body if hasattr(node, "name")]))
 
     def test_methods_of_builtin_values(self):
@@ -179,6 +181,12 @@ class Form(unittest.TestCase):
             "Nearest": "__init__ __eq__", "Trial": "keep __enter__ __exit__",
             "Follower": "__init__ span known deeds __len__ __iter__ __contains__ is_within hear __call__ move reach meter "
                         "undo trial tried begun replay twin __eq__",
+            "Holds": "__init__ __eq__", "Fails": "__init__ __eq__ __bool__",
+            "Train": "__init__ __len__ __iter__ __getitem__ __add__ stands again __eq__ __str__ read",
+            "Shelf": "__init__ __setitem__ drop __getitem__ __contains__ __len__ __iter__ stock undo redo can_undo "
+                     "can_redo cost chosen twin __eq__",
+            "Cheapest": "__init__ __eq__", "NoChoice": "__init__ __eq__ __bool__", "Stretch": "__init__ __eq__",
+            "Desk": "__init__ say __call__ run __len__ meter_now follower_now shelf_now __eq__ text_now read",
             "Wheel": "trusted play never_parts near __call__ each_mark lets shown_by does_part wider __mul__ __eq__ "
                      "__str__ read",
             "Even": "__init__", "Exact": "__init__", "Lagging": "__init__", "Grid": "__init__",
@@ -205,7 +213,12 @@ class Form(unittest.TestCase):
             "readings": "fits told choices_of tables_of next_fit last_fit each_fit off_at Told Spread Noticed surely_off "
                         "maybe_off",
             "look_readings": "shows_told", "nearest": "strain nearest Nearest", "look_nearest": "shows_nearest",
-            "follower": "Follower",
+            "follower": "Follower", "compared": "blind_lot tells_no_less Holds Fails are_alike",
+            "look_compared": "shows_no_less", "gears": "Train meter_of reach_in", "shelf": "Shelf",
+            "design": "cheapest Cheapest NoChoice frontier", "look_design": "shows_choice",
+            "logs": "least_play plays wheels_off misread periods_that_fit Stretch",
+            "texts": "reading_text runs_text shelf_text verdict_text",
+            "reader": "read_reading read_shelf read_verdict", "desk": "Desk",
         }
         found = {name[:-3]: {node.name for node in tree.body if isinstance(node, (ast.FunctionDef, ast.ClassDef))}
                  for name, tree in trees()}

@@ -3,7 +3,10 @@
 import unittest
 
 from helpers import ANY, Case, alike
+from wheelreach.compared import Fails, Holds
+from wheelreach.design import Cheapest, NoChoice
 from wheelreach.joins import Join
+from wheelreach.logs import Stretch
 from wheelreach.nearest import Nearest
 from wheelreach.papers import Paper
 from wheelreach.reaches import Sure, Unsure
@@ -14,8 +17,10 @@ from wheelreach.stairs import Slip
 PAPERS = [(Join, ("tables",)), (Sure, ("tables",)), (Unsure, ("low", "high", "marks", "low_off", "high_off")),
           (Slip, ("k", "certificate", "counterexample")), (Kept, ("edge", "certificate")),
           (Drifts, ("edge", "counterexample")), (Told, ("low", "high", "tables")), (Spread, ("low", "high")),
-          (Noticed, ("tables",)), (Nearest, ("strain", "runs", "less", "tables"))]
-FALSE = (Unsure, Drifts, Spread, Noticed)
+          (Noticed, ("tables",)), (Nearest, ("strain", "runs", "less", "tables")), (Holds, ("tables",)),
+          (Fails, ("d",)), (Cheapest, ("names", "price", "certificate", "bars")), (NoChoice, ("bar",)),
+          (Stretch, ("begin", "width", "left"))]
+FALSE = (Unsure, Drifts, Spread, Noticed, Fails, NoChoice)
 
 
 class Papers(Case):

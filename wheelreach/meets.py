@@ -1,7 +1,7 @@
 """Where the runs of two rounds meet."""
 
 from wheelreach.errors import TooMany
-from wheelreach.numbers import common, inverse
+from wheelreach.numbers import common, inverse, multiple
 from wheelreach.rounds import MOST_RUNS, begun, is_full
 
 
@@ -42,18 +42,8 @@ def crossings(one, other, most):
     return found
 
 
-def meet(one, other, most=MOST_RUNS):
-    """The round of what lies in both rounds; its period is the least common multiple of theirs.
-
-    A round of all integers must have the period 1 here. Raises TooMany for more than most runs.
-    """
-    if is_full(one):
-        return other
-    if is_full(other):
-        return one
-    found = crossings(one, other, most + 1)
-    if len(found) > most:
-        raise TooMany("runs", most)
+def placed(one, other, found):
+    """The runs of what lies in both rounds at these crossings; they begin from 0 on, below the common period."""
     shared = common(one[0], other[0])
     rest = other[0] // shared
     period = one[0] * rest
@@ -67,4 +57,25 @@ def meet(one, other, most=MOST_RUNS):
         place = begin + one[0] * turns
         low = (place + max(0, shift)) % period
         rows.append((low, low + min(end - begin, shift + stop - start) - max(0, shift)))
-    return (period, tuple(sorted(rows)))
+    return rows
+
+
+def meet(one, other, most=MOST_RUNS):
+    """The round of what lies in both rounds; its period is the least common multiple of theirs.
+
+    A round of all integers must have the period 1 here. Raises TooMany for more than most runs.
+    """
+    if is_full(one):
+        return other
+    if is_full(other):
+        return one
+    found = crossings(one, other, most + 1)
+    if len(found) > most:
+        raise TooMany("runs", most)
+    return (multiple(one[0], other[0]), tuple(sorted(placed(one, other, found))))
+
+
+def member_of_both(one, other):
+    """An integer from 0 on that lies in both rounds; None if there is none."""
+    found = crossings(one, other, 1)
+    return placed(one, other, found)[0][0] if found else None

@@ -6,6 +6,7 @@ MOST_DIGITS = 120
 BEYOND = 10 ** 60 * 10 ** 60
 CHUNK = 10 ** 64
 CHUNK_DIGITS = 64
+MOST_LETTERS = 8
 
 
 def number_in(word):
@@ -43,12 +44,19 @@ def integer_text(number):
 
 def run_words(runs):
     """Each run as its begin, `to` and its end, with a comma between two of them."""
-    return " , ".join([f"{number_text(begin)} to {number_text(end)}" for begin, end in runs])
+    return " , ".join([f"{integer_text(begin)} to {integer_text(end)}" for begin, end in runs])
 
 
 def mark_words(marks):
     """Each mark of a reading, `-` for a lost wheel."""
     return " ".join(["-" if mark is None else number_text(mark) for mark in marks])
+
+
+def is_name(value):
+    """Whether any value is a name: a string of 1 to 8 letters from a to z."""
+    if not isinstance(value, str) or not 1 <= len(value) <= MOST_LETTERS:
+        return False
+    return value.isascii() and value.isalpha() and value.islower()
 
 
 class Words:
@@ -93,14 +101,22 @@ class Words:
             return None
         return self.take_whole()
 
-    def take_integer(self):
-        """The next word as any integer."""
+    def take_integer(self, bound=BEYOND):
+        """The next word as an integer that is at most bound from 0."""
         word = self.upcoming()
         number = None if word is None else integer_in(word)
-        if number is None:
+        if number is None or abs(number) > bound:
             raise BadText(self.line, self.at)
         self.at = self.at + 1
         return number
+
+    def take_name(self, above=""):
+        """The next word as a name that stands behind the one ahead of it."""
+        word = self.upcoming()
+        if not is_name(word) or word <= above:
+            raise BadText(self.line, self.at)
+        self.at = self.at + 1
+        return word
 
     def finish(self):
         """There must be no word more."""
