@@ -220,7 +220,7 @@ class Verdicts(TextCase):
                            ("off - / 1 1", 4), ("off - / 2 1", 4), ("off - 0 / -", 2), ("off 0 - / -", 2),
                            ("off - / - 0", 4), ("off - / 0 -", 4), ("off - / 0 /", 4), ("off - / - /", 4),
                            ("off 00 / -", 1), ("off -0 / -", 1), ("off 0 7 8 / -", 3), ("off 7 8 / -", 2),
-                           ("off - / 6 7 8", 5), ("off - / 7 7", 4), ("off 0  / -", 2), ("off - / - ", 4)):
+                           ("off - / 6 7 8", 5), ("off 0 2 1 / -", 3), ("off - / 1 4 3", 5), ("off - / 7 7", 4), ("off 0  / -", 2), ("off - / - ", 4)):
             self.raises(BadText(2, word), read_verdict, head + text)
 
     def test_words_of_a_sure(self):

@@ -328,7 +328,8 @@ class Asked(Unchanged):
                     off, more, lost = numbers
                     wanted = Meter(*[Exact("abcdefgh".index(name) + 2) for name in names], off=off, more=more, lost=lost)
                     self.same(shelf.chosen(*names, off=off, more=more, lost=lost) == wanted, True)
-                self.same(shelf.chosen(*names, lost=1).lost, 1)
+                self.same(str(shelf.chosen(*names)).split(" ; ")[1], "off 0 more 0 lost 0")
+                self.same(str(shelf.chosen(*names, lost=1)).split(" ; ")[1], "off 0 more 0 lost 1")
         self.same(stocked(("a", Exact(5), MOST), ("b", Exact(5), MOST)).cost("b", "a"), 2 * MOST)
 
     def test_names_that_cannot_be_chosen(self):

@@ -133,7 +133,8 @@ def wheels_off(meter, entries):
 def may_come(meter, marks, value):
     """Whether these marks may come of the value; a trusted wheel is neither lost nor off."""
     for wheel, mark in zip(meter, marks):
-        if wheel.trusted and (mark is None or not wheel.lets(value, mark)):
+        # no wheel lets None
+        if wheel.trusted and not wheel.lets(value, mark):
             return False
     return how_many_lost(marks) <= meter.lost and len(places_off(meter, marks, value)) <= meter.off + meter.more
 

@@ -88,7 +88,7 @@ def bars_all_better(shelf, numbers, paper):
     bars = unlike_bars(meter_with(shelf, tuple(shelf), numbers), paper.bars)
     for _, _, names in selections(shelf):
         if names == paper.names:
-            return True
+            break
         if not has_blind(meter_with(shelf, names, numbers), bars):
             return False
-    return False
+    return True
